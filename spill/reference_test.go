@@ -1,0 +1,304 @@
+package spill
+
+import (
+	"regexp"
+	"strconv"
+	"strings"
+
+	"spill/api"
+)
+
+// The functions here follow the document's words straight on the text, by other means than the program does, so that both can be held against one another.
+
+var instructionForm = regexp.MustCompile(`\A(?:[-+*&^][a-zA-Z]{3}|#[a-zA-Z][0-9]{2}|[=lLsS][a-zA-Z]{2}\.|j[0-9]\.\.|\?[a-zA-Z][0-9]{2}|r[a-zA-Z]\.\.)\z`)
+
+func cut(s string) []string {
+	var l []string
+	for len(s) >= 4 {
+		l = append(l, s[:4])
+		s = s[4:]
+	}
+	if s != "" {
+		l = append(l, s)
+	}
+	return l
+}
+
+func endsBlock(i string) bool { return strings.IndexByte("j?r", i[0]) >= 0 }
+
+// named: the blocks that an instruction names, as digits.
+func named(i string) string {
+	switch i[0] {
+	case 'j':
+		return i[1:2]
+	case '?':
+		return i[2:4]
+	}
+	return ""
+}
+
+// blockStarts: the places at which blocks begin.
+func blockStarts(l []string) []int {
+	starts := []int{0}
+	for n, i := range l {
+		if endsBlock(i) && n+1 < len(l) {
+			starts = append(starts, n+1)
+		}
+	}
+	return starts
+}
+
+func reads(i string) string {
+	switch i[0] {
+	case '+', '-', '*', '&', '^':
+		return i[2:4]
+	case '=', 'l', 'L':
+		return i[2:3]
+	case 's', 'S':
+		return i[1:3]
+	case '?', 'r':
+		return i[1:2]
+	}
+	return ""
+}
+
+func writes(i string) string {
+	if strings.IndexByte("+-*&^#=lL", i[0]) >= 0 {
+		return i[1:2]
+	}
+	return ""
+}
+
+func isSourceProgram(s string) bool {
+	l := cut(s)
+	if len(l) == 0 {
+		return false
+	}
+	for _, i := range l {
+		if !instructionForm.MatchString(i) {
+			return false
+		}
+	}
+	if !endsBlock(l[len(l)-1]) {
+		return false
+	}
+	blocks := len(blockStarts(l))
+	for _, i := range l {
+		for _, digit := range named(i) {
+			if digit == '0' || int(digit-'0') >= blocks {
+				return false
+			}
+		}
+	}
+	return blocks <= 10
+}
+
+// mayReadUnset walks forward from instruction 0, for each register on its own.
+func mayReadUnset(l []string) bool {
+	starts := blockStarts(l)
+	for _, r := range "cdefghijklmnopqrstuvwxyzCDEFGHIJKLMNOPQRSTUVWXYZ" {
+		seen := map[int]bool{}
+		todo := []int{0}
+		for len(todo) > 0 {
+			at := todo[0]
+			todo = todo[1:]
+			if seen[at] {
+				continue
+			}
+			seen[at] = true
+			i := l[at]
+			if strings.ContainsRune(reads(i), r) {
+				return true
+			}
+			if strings.ContainsRune(writes(i), r) {
+				continue
+			}
+			if !endsBlock(i) {
+				todo = append(todo, at+1)
+			}
+			for _, digit := range named(i) {
+				todo = append(todo, starts[digit-'0'])
+			}
+		}
+	}
+	return false
+}
+
+var showForm = regexp.MustCompile(`\A(?:[-+*&^][a-z](?:[A-Z].|.[A-Z])|=[a-z][A-Z].|[lL].[A-Z].|[sS][A-Z]..|L[a-z]..|s.[A-Z].|\?[A-Z]..)\z`)
+
+func mayShow(l []string) bool {
+	for _, i := range l {
+		if showForm.MatchString(i) {
+			return true
+		}
+	}
+	return false
+}
+
+func referenceCheck(s string) (int, api.Errno) {
+	if len(s) > 256 {
+		return 0, api.ErrLong
+	}
+	if !isSourceProgram(s) {
+		return 0, api.ErrCode
+	}
+	l := cut(s)
+	if mayReadUnset(l) {
+		return 0, api.ErrUnset
+	}
+	if mayShow(l) {
+		return 0, api.ErrSecret
+	}
+	return len(l), api.OK
+}
+
+// referenceRun runs a program that Check does not refuse but for its secrets.
+func referenceRun(s string, in api.Input, fuel int) api.Outcome {
+	l := cut(s)
+	starts := blockStarts(l)
+	held := map[byte]uint16{'a': uint16(in.Args[0]), 'b': uint16(in.Args[1]), 'A': uint16(in.Args[2]), 'B': uint16(in.Args[3])}
+	o := api.Outcome{Status: api.Tired, Public: in.Public, Secret: in.Secret}
+	at := 0
+	for ; fuel > 0; fuel-- {
+		i := l[at]
+		at++
+		switch i[0] {
+		case '+':
+			held[i[1]] = held[i[2]] + held[i[3]]
+		case '-':
+			held[i[1]] = held[i[2]] - held[i[3]]
+		case '*':
+			held[i[1]] = uint16(uint64(held[i[2]]) * uint64(held[i[3]]))
+		case '&':
+			held[i[1]] = held[i[2]] & held[i[3]]
+		case '^':
+			held[i[1]] = held[i[2]] ^ held[i[3]]
+		case '#':
+			n, _ := strconv.Atoi(i[2:4])
+			held[i[1]] = uint16(n)
+		case '=':
+			held[i[1]] = held[i[2]]
+		case 'j':
+			at = starts[i[1]-'0']
+		case '?':
+			if held[i[1]] != 0 {
+				o.Trace += "?1"
+				at = starts[i[2]-'0']
+			} else {
+				o.Trace += "?0"
+				at = starts[i[3]-'0']
+			}
+		case 'r':
+			o.Status = api.Returned
+			o.Value = int(held[i[1]])
+			return o
+		default:
+			memory := &o.Public
+			if i[0] == 'L' || i[0] == 'S' {
+				memory = &o.Secret
+			}
+			word := held[reads(i)[0]]
+			o.Trace += i[:1] + strconv.Itoa(int(word))
+			if word > 7 {
+				o.Status = api.Trapped
+				o.Trace += "!"
+				return o
+			}
+			if i[0] == 'l' || i[0] == 'L' {
+				held[i[1]] = uint16(memory[word])
+			} else {
+				memory[word] = int(held[i[2]])
+			}
+		}
+	}
+	return o
+}
+
+// dice: numbers that look thrown, the same at every run of the tests.
+type dice struct{ now uint64 }
+
+func (d *dice) throw(n int) int {
+	d.now = d.now*6364136223846793005 + 1442695040888963407
+	return int((d.now >> 33) % uint64(n))
+}
+
+func (d *dice) of(text string) string {
+	n := d.throw(len(text))
+	return text[n : n+1]
+}
+
+// instruction makes an instruction that ends no block, of a few registers.
+func (d *dice) instruction(letters string) string {
+	switch d.throw(8) {
+	case 0, 1, 2:
+		return d.of("+-*&^") + d.of(letters) + d.of(letters) + d.of(letters)
+	case 3, 4:
+		return "#" + d.of(letters) + d.of("00012") + d.of("0123456789")
+	case 5:
+		return "=" + d.of(letters) + d.of(letters) + "."
+	case 6:
+		return d.of("lL") + d.of(letters) + d.of(letters) + "."
+	}
+	return d.of("sS") + d.of(letters) + d.of(letters) + "."
+}
+
+// program makes a text that is most often a source program.
+func (d *dice) program(letters string) string {
+	blocks := 1 + d.throw(6)
+	digits := "123456789"[:max(1, blocks-1)]
+	if d.throw(40) == 0 {
+		digits = "0123456789"
+	}
+	s := ""
+	for b := 0; b < blocks; b++ {
+		for n := d.throw(5); n > 0; n-- {
+			s += d.instruction(letters)
+		}
+		switch {
+		case b == blocks-1 || d.throw(6) == 0:
+			s += "r" + d.of(letters) + ".."
+		case d.throw(3) == 0:
+			s += "j" + d.of(digits) + ".."
+		default:
+			s += "?" + d.of(letters) + d.of(digits) + d.of(digits)
+		}
+	}
+	return s
+}
+
+func (d *dice) value() int {
+	switch d.throw(5) {
+	case 0:
+		return d.throw(65536)
+	case 1:
+		return 65535 - d.throw(3)
+	}
+	return d.throw(9)
+}
+
+func (d *dice) input() api.Input {
+	in := api.Input{}
+	for n := range in.Args {
+		in.Args[n] = d.value()
+	}
+	for n := range in.Public {
+		in.Public[n] = d.value()
+		in.Secret[n] = d.value()
+	}
+	return in
+}
+
+// marred: a text with one byte of it changed, put in or left out.
+func (d *dice) marred(s string) string {
+	at := d.throw(len(s))
+	b := string([]byte{byte(d.throw(256))})
+	switch d.throw(4) {
+	case 0:
+		return s[:at] + s[at+1:]
+	case 1:
+		return s[:at] + b + s[at:]
+	case 2:
+		return s[:at] + d.of("abcABCjr?#.0129+") + s[at+1:]
+	}
+	return s[:at] + b + s[at+1:]
+}

