@@ -17,6 +17,15 @@ import (
 
 const root = ".."
 
+// isForeign: folders with these names are none of the program's packages.
+func isForeign(folder string) bool {
+	switch folder {
+	case ".git", "sharedtests", "form", "try":
+		return true
+	}
+	return strings.HasPrefix(folder, "spill") && folder != "spill"
+}
+
 // sources: the program's own Go files, without tests and without what is laid beside it for a run of the tests.
 func sources(t *testing.T) []string {
 	t.Helper()
@@ -25,7 +34,7 @@ func sources(t *testing.T) []string {
 		if err != nil {
 			return err
 		}
-		if d.IsDir() && (d.Name() == ".git" || d.Name() == "sharedtests") {
+		if d.IsDir() && isForeign(d.Name()) {
 			return filepath.SkipDir
 		}
 		if strings.HasSuffix(path, ".go") && !strings.HasSuffix(path, "_test.go") {
