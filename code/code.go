@@ -12,13 +12,22 @@ const (
 	FirstSecret = 26
 )
 
+// A machine's places have numbers: its registers those from 0 on, its slots those from FirstSlot on, whatever the machine.
+const (
+	FirstSlot = api.MaxRegs
+	Places    = FirstSlot + api.Slots
+)
+
 // Width is how many bytes an instruction has.
 const Width = 4
+
+// alphabet has the letters in the order in which registers of a source program, and slots, are numbered.
+const alphabet = "abcdefghijklmnopqrstuvwxyzABCDEFGHIJKLMNOPQRSTUVWXYZ"
 
 // Arguments: the registers a, b, A, B, which are written when a source program begins.
 var Arguments = [4]int{0, 1, FirstSecret, FirstSecret + 1}
 
-// Instruction is one instruction taken apart: its first byte, the registers d, x, y, the number n, the blocks k, m.
+// Instruction is one instruction taken apart: its first byte, the registers d, x, y, the number n, the blocks k, m. In a machine program D, X, Y are places: what is written stands in D, what is read in X and Y, slots too.
 type Instruction struct {
 	Op      byte
 	D, X, Y int
@@ -45,6 +54,14 @@ func (i Instruction) EndsBlock() bool {
 // IsSecret tells whether a register, which may be None, is a secret one.
 func IsSecret(r int) bool {
 	return r >= FirstSecret
+}
+
+// Letter tells how a register of a source program, or a slot counted from 0 on, is written; where there is none, as a dot.
+func Letter(n int) byte {
+	if n < 0 || n >= len(alphabet) {
+		return '.'
+	}
+	return alphabet[n]
 }
 
 // Start tells where block b begins, and None if it is not there.

@@ -5,8 +5,8 @@ import (
 	"testing"
 )
 
-func TestRead(t *testing.T) {
-	p, ok := Read("+cAb#Z07?a12SaB.j2..rz..")
+func TestReadSource(t *testing.T) {
+	p, ok := ReadSource("+cAb#Z07?a12SaB.j2..rz..")
 	want := Program{
 		Code: []Instruction{
 			{Op: '+', D: 2, X: 26, Y: 1, K: None, M: None},
@@ -19,20 +19,60 @@ func TestRead(t *testing.T) {
 		Blocks: []Block{{0, 2}, {3, 4}, {5, 5}},
 	}
 	if !ok || !reflect.DeepEqual(p, want) {
-		t.Errorf("P3: Read = %+v, %v, want %+v", p, ok, want)
+		t.Errorf("P3: ReadSource = %+v, %v, want %+v", p, ok, want)
 	}
 }
 
-func TestReadRefuses(t *testing.T) {
+func TestReadSourceRefuses(t *testing.T) {
 	for _, s := range []string{"", "r", "ra.", "ra..r", "+aab", "ra..+aab", "xa..", "j0..", "j1..", "?a11", "ra..j2.."} {
-		if p, ok := Read(s); ok || len(p.Code) != 0 || len(p.Blocks) != 0 {
-			t.Errorf("P3: Read(%q) = %+v, %v, want nothing", s, p, ok)
+		if p, ok := ReadSource(s); ok || len(p.Code) != 0 || len(p.Blocks) != 0 {
+			t.Errorf("P3: ReadSource(%q) = %+v, %v, want nothing", s, p, ok)
+		}
+	}
+}
+
+func TestReadMachine(t *testing.T) {
+	p, ok := ReadMachine("+501>Z3.<4a.~z..~5..?012#499j2..r0..", 6)
+	want := Program{
+		Code: []Instruction{
+			{Op: '+', D: 5, X: 0, Y: 1, K: None, M: None},
+			{Op: '>', D: 61, X: 3, Y: None, K: None, M: None},
+			{Op: '<', D: 4, X: 10, Y: None, K: None, M: None},
+			{Op: '~', D: 35, X: None, Y: None, K: None, M: None},
+			{Op: '~', D: 5, X: None, Y: None, K: None, M: None},
+			{Op: '?', D: None, X: 0, Y: None, K: 1, M: 2},
+			{Op: '#', D: 4, X: None, Y: None, N: 99, K: None, M: None},
+			{Op: 'j', D: None, X: None, Y: None, K: 2, M: None},
+			{Op: 'r', D: None, X: 0, Y: None, K: None, M: None},
+		},
+		Blocks: []Block{{0, 5}, {6, 7}, {8, 8}},
+	}
+	if !ok || !reflect.DeepEqual(p, want) {
+		t.Errorf("P5: ReadMachine = %+v, %v, want %+v", p, ok, want)
+	}
+}
+
+func TestReadMachineRefuses(t *testing.T) {
+	for _, s := range []string{"", "r0.", "ra..", "r1..", "=60.r0..", "~6..r0..", "~...r0..", ">00.r0..", ">aa.r0..", "<aa.r0..", "<00.r0..", "+abcr0..", "j1.."} {
+		if p, ok := ReadMachine(s, 6); ok || len(p.Code) != 0 || len(p.Blocks) != 0 {
+			t.Errorf("P5: ReadMachine(%q, 6) = %+v, %v, want nothing", s, p, ok)
+		}
+	}
+	if _, ok := ReadMachine("=60.r0..", 7); !ok {
+		t.Error("P5: register 6 is not there with 7 registers")
+	}
+}
+
+func TestLetter(t *testing.T) {
+	for n, want := range map[int]byte{-1: '.', 0: 'a', 25: 'z', 26: 'A', 51: 'Z', 52: '.'} {
+		if got := Letter(n); got != want {
+			t.Errorf("Letter(%d) = %q, want %q", n, got, want)
 		}
 	}
 }
 
 func TestStart(t *testing.T) {
-	p, _ := Read("#c01j1..ra..")
+	p, _ := ReadSource("#c01j1..ra..")
 	for b, want := range map[int]int{-1: None, 0: 0, 1: 2, 2: None, 1 << 40: None} {
 		if got := p.Start(b); got != want {
 			t.Errorf("block %d begins at %d, want %d", b, got, want)

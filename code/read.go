@@ -1,13 +1,30 @@
 package code
 
-// Read takes a source program apart; it answers false if the text is none.
-func Read(s string) (Program, bool) {
+// grammar tells how a kind of program is written: the registers of a source program are letters, those of a machine the digits below their number.
+type grammar struct {
+	machine   bool
+	registers int
+}
+
+// ReadSource takes a source program apart; it answers false if the text is none.
+func ReadSource(s string) (Program, bool) {
+	g := grammar{}
+	return g.read(s)
+}
+
+// ReadMachine takes a program of a machine with k registers apart; it answers false if the text is none.
+func ReadMachine(t string, k int) (Program, bool) {
+	g := grammar{machine: true, registers: k}
+	return g.read(t)
+}
+
+func (g grammar) read(s string) (Program, bool) {
 	p := Program{}
 	if len(s)%Width != 0 {
 		return Program{}, false
 	}
 	for at := 0; at+Width <= len(s); at += Width {
-		i, ok := readInstruction(s[at : at+Width])
+		i, ok := g.readInstruction(s[at : at+Width])
 		if !ok {
 			return Program{}, false
 		}
@@ -19,8 +36,25 @@ func Read(s string) (Program, bool) {
 	return p, true
 }
 
-// shape tells what stands behind an instruction's first byte: registers d, x, y, digits n, blocks k, m, dots.
-func shape(op byte) string {
+// shape tells what stands behind an instruction's first byte: registers d, x, y, slots D, X, a place q, the register 0, digits n, blocks k, m, dots.
+func (g grammar) shape(op byte) string {
+	if !g.machine {
+		return commonShape(op)
+	}
+	switch op {
+	case '>':
+		return "Dx."
+	case '<':
+		return "dX."
+	case '~':
+		return "q.."
+	case 'r':
+		return "0.."
+	}
+	return commonShape(op)
+}
+
+func commonShape(op byte) string {
 	switch op {
 	case '+', '-', '*', '&', '^':
 		return "dxy"
@@ -40,38 +74,67 @@ func shape(op byte) string {
 	return ""
 }
 
-func readInstruction(text string) (Instruction, bool) {
+func (g grammar) readInstruction(text string) (Instruction, bool) {
 	i := Instruction{D: None, X: None, Y: None, K: None, M: None}
 	if len(text) == 0 {
 		return i, false
 	}
 	i.Op = text[0]
-	parts := shape(i.Op)
+	parts := g.shape(i.Op)
 	if len(parts) == 0 || len(parts)+1 != len(text) {
 		return i, false
 	}
 	for at := 0; at < len(parts) && at+1 < len(text); at++ {
-		if !i.take(parts[at], text[at+1]) {
+		b := text[at+1]
+		place := g.place(parts[at], b)
+		if !i.take(parts[at], b, place) {
 			return i, false
 		}
 	}
 	return i, true
 }
 
-// take lays one byte of the text into the part of the instruction that the shape says, and answers false if it does not fit there.
-func (i *Instruction) take(part byte, b byte) bool {
-	digit := digitOf(b)
-	register := registerOf(b)
+// place tells which register or slot a byte of the text is, where the shape has one.
+func (g grammar) place(part byte, b byte) int {
 	switch part {
-	case 'd':
-		i.D = register
-		return register != None
-	case 'x':
-		i.X = register
-		return register != None
+	case 'D', 'X':
+		return slotOf(b)
+	case 'q':
+		if slot := slotOf(b); slot != None {
+			return slot
+		}
+	case '0':
+		if b != '0' {
+			return None
+		}
+	}
+	return g.register(b)
+}
+
+func (g grammar) register(b byte) int {
+	if !g.machine {
+		return letterOf(b)
+	}
+	digit := digitOf(b)
+	if digit >= g.registers {
+		return None
+	}
+	return digit
+}
+
+// take lays one byte of the text into the part of the instruction that the shape says, and answers false if it does not fit there.
+func (i *Instruction) take(part byte, b byte, place int) bool {
+	digit := digitOf(b)
+	switch part {
+	case 'd', 'D', 'q':
+		i.D = place
+		return place != None
+	case 'x', 'X', '0':
+		i.X = place
+		return place != None
 	case 'y':
-		i.Y = register
-		return register != None
+		i.Y = place
+		return place != None
 	case 'n':
 		i.N = i.N*10 + digit
 		return digit != None
@@ -85,12 +148,19 @@ func (i *Instruction) take(part byte, b byte) bool {
 	return b == part
 }
 
-func registerOf(b byte) int {
-	if b >= 'a' && b <= 'z' {
-		return int(b - 'a')
+func slotOf(b byte) int {
+	letter := letterOf(b)
+	if letter == None {
+		return None
 	}
-	if b >= 'A' && b <= 'Z' {
-		return int(b-'A') + FirstSecret
+	return FirstSlot + letter
+}
+
+func letterOf(b byte) int {
+	for n := 0; n < len(alphabet); n++ {
+		if alphabet[n] == b {
+			return n
+		}
 	}
 	return None
 }

@@ -8,7 +8,7 @@ import (
 
 func read(t *testing.T, s string) *code.Program {
 	t.Helper()
-	p, ok := code.Read(s)
+	p, ok := code.ReadSource(s)
 	if !ok {
 		t.Fatalf("%q is no program", s)
 	}

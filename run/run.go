@@ -8,25 +8,50 @@ import (
 	"spill/code"
 )
 
-// state is all that a run changes.
+// state is all that a run changes. A source program's registers lie where a machine's places do: there are fewer of them.
 type state struct {
-	registers [code.Registers]int
-	public    [api.Words]int
-	secret    [api.Words]int
-	trace     []byte
-	ended     bool
-	status    int
-	value     int
+	places [code.Places]int
+	public [api.Words]int
+	secret [api.Words]int
+	trace  []byte
+	ended  bool
+	status int
+	value  int
 }
 
 // Source runs a source program; the input and the fuel are such as MayBegin allows.
 func Source(p *code.Program, in api.Input, fuel int) api.Outcome {
-	// A run that nothing ends is tired.
-	m := state{public: in.Public, secret: in.Secret, status: api.Tired}
+	m := begin(in)
 	for n := 0; n < len(code.Arguments) && n < len(in.Args); n++ {
 		m.write(code.Arguments[n], in.Args[n])
 	}
 	m.walk(p, fuel)
+	return m.outcome()
+}
+
+// Machine runs a machine program; the input and the fuel are such as MayBegin allows.
+func Machine(p *code.Program, in api.Input, fuel int) api.Outcome {
+	m := begin(in)
+	for n := 0; n < len(in.Args); n++ {
+		m.write(n, in.Args[n])
+	}
+	m.walk(p, fuel)
+	o := m.outcome()
+	for n := 0; n < len(o.Regs); n++ {
+		o.Regs[n] = m.read(n)
+	}
+	for n := 0; n < len(o.Slots); n++ {
+		o.Slots[n] = m.read(code.FirstSlot + n)
+	}
+	return o
+}
+
+func begin(in api.Input) state {
+	// A run that nothing ends is tired.
+	return state{public: in.Public, secret: in.Secret, status: api.Tired}
+}
+
+func (m *state) outcome() api.Outcome {
 	return api.Outcome{
 		Status: m.status,
 		Value:  m.value,
@@ -60,6 +85,8 @@ func (m *state) step(p *code.Program, at int, i code.Instruction) int {
 		m.end(api.Returned)
 	case 'l', 'L', 's', 'S':
 		m.reach(i)
+	case '>', '<', '~':
+		m.move(i)
 	default:
 		result := m.compute(i)
 		m.write(i.D, result)
@@ -124,18 +151,35 @@ func (m *state) reach(i code.Instruction) {
 	}
 }
 
-// read tells what a register holds; where an instruction has none, 0.
-func (m *state) read(r int) int {
-	if r < 0 || r >= len(m.registers) {
-		return 0
-	}
-	return m.registers[r]
+// move does the instructions that a machine alone has. A `~` reads no place: so what it writes is 0.
+func (m *state) move(i code.Instruction) {
+	m.showSlot(i.Op, i.D)
+	m.showSlot(i.Op, i.X)
+	value := m.read(i.X)
+	m.write(i.D, value)
 }
 
-func (m *state) write(r int, value int) {
-	if r >= 0 && r < len(m.registers) {
-		m.registers[r] = value
+// read tells what a place holds; where an instruction has none, 0.
+func (m *state) read(place int) int {
+	if place < 0 || place >= len(m.places) {
+		return 0
 	}
+	return m.places[place]
+}
+
+func (m *state) write(place int, value int) {
+	if place >= 0 && place < len(m.places) {
+		m.places[place] = value
+	}
+}
+
+// showSlot lays a piece behind the trace if the place is a slot: whoever watches sees the frame, but not the registers.
+func (m *state) showSlot(op byte, place int) {
+	if place < code.FirstSlot {
+		return
+	}
+	letter := code.Letter(place - code.FirstSlot)
+	m.trace = append(m.trace, op, letter)
 }
 
 // show lays a piece behind the trace.

@@ -22,7 +22,7 @@ func TestMayShow(t *testing.T) {
 		"ra..?A11":     true,
 		"+AAA=aA.rA..": true,
 	} {
-		p, ok := code.Read(s)
+		p, ok := code.ReadSource(s)
 		if !ok {
 			t.Fatalf("%q is no program", s)
 		}

@@ -69,13 +69,13 @@ func writes(i string) string {
 	return ""
 }
 
-func isSourceProgram(s string) bool {
+func isProgram(s string, form *regexp.Regexp) bool {
 	l := cut(s)
 	if len(l) == 0 {
 		return false
 	}
 	for _, i := range l {
-		if !instructionForm.MatchString(i) {
+		if !form.MatchString(i) {
 			return false
 		}
 	}
@@ -139,7 +139,7 @@ func referenceCheck(s string) (int, api.Errno) {
 	if len(s) > 256 {
 		return 0, api.ErrLong
 	}
-	if !isSourceProgram(s) {
+	if !isProgram(s, instructionForm) {
 		return 0, api.ErrCode
 	}
 	l := cut(s)
@@ -154,9 +154,22 @@ func referenceCheck(s string) (int, api.Errno) {
 
 // referenceRun runs a program that Check does not refuse but for its secrets.
 func referenceRun(s string, in api.Input, fuel int) api.Outcome {
+	return referenceWalk(s, hold("abAB", in), in, fuel)
+}
+
+// hold: the arguments, each in the register whose byte the text has for it.
+func hold(names string, in api.Input) map[byte]uint16 {
+	held := map[byte]uint16{}
+	for n, v := range in.Args {
+		held[names[n]] = uint16(v)
+	}
+	return held
+}
+
+// referenceWalk runs a program, of whatever kind, with what its registers and slots hold.
+func referenceWalk(s string, held map[byte]uint16, in api.Input, fuel int) api.Outcome {
 	l := cut(s)
 	starts := blockStarts(l)
-	held := map[byte]uint16{'a': uint16(in.Args[0]), 'b': uint16(in.Args[1]), 'A': uint16(in.Args[2]), 'B': uint16(in.Args[3])}
 	o := api.Outcome{Status: api.Tired, Public: in.Public, Secret: in.Secret}
 	at := 0
 	for ; fuel > 0; fuel-- {
@@ -178,6 +191,14 @@ func referenceRun(s string, in api.Input, fuel int) api.Outcome {
 			held[i[1]] = uint16(n)
 		case '=':
 			held[i[1]] = held[i[2]]
+		case '>', '<':
+			held[i[1]] = held[i[2]]
+			o.Trace += i[:1] + strings.Trim(i[1:3], "0123456789")
+		case '~':
+			held[i[1]] = 0
+			if i[1] > '9' {
+				o.Trace += i[:2]
+			}
 		case 'j':
 			at = starts[i[1]-'0']
 		case '?':

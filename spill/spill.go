@@ -2,6 +2,7 @@
 package spill
 
 import (
+	"spill/accept"
 	"spill/api"
 	"spill/code"
 	"spill/flow"
@@ -35,11 +36,37 @@ func Run(s string, in api.Input, fuel int) (api.Outcome, api.Errno) {
 
 // Exec runs a machine program (P5).
 func Exec(t string, k int, in api.Input, fuel int) (api.Outcome, api.Errno) {
-	return api.Outcome{}, api.OK
+	if len(t) > api.MaxMachine {
+		return api.Outcome{}, api.ErrLong
+	}
+	if !hasMachine(k) || !run.MayBegin(in, fuel) {
+		return api.Outcome{}, api.ErrArg
+	}
+	p, ok := code.ReadMachine(t, k)
+	if !ok {
+		return api.Outcome{}, api.ErrCode
+	}
+	return run.Machine(&p, in, fuel), api.OK
 }
 
 // Accept tells whether a machine program does what a source program does (P6).
-func Accept(s string, t string, k int) (bool, api.Errno) { return false, api.OK }
+func Accept(s string, t string, k int) (bool, api.Errno) {
+	if len(s) > api.MaxSource || len(t) > api.MaxMachine {
+		return false, api.ErrLong
+	}
+	if !hasMachine(k) {
+		return false, api.ErrArg
+	}
+	source, isSource := code.ReadSource(s)
+	machine, isMachine := code.ReadMachine(t, k)
+	if !isSource || !isMachine {
+		return false, api.ErrCode
+	}
+	if flow.MayReadUnset(&source) {
+		return false, api.ErrUnset
+	}
+	return accept.Accepted(&source, &machine), api.OK
+}
 
 // Live tells which registers are live ahead of an instruction (P7).
 func Live(s string, i int) (string, api.Errno) { return "", api.OK }
@@ -50,12 +77,17 @@ func Core(s string, c int) (string, api.Errno) { return "", api.OK }
 // Compile makes a machine program of a source program (P9).
 func Compile(s string, k int) (string, api.Errno) { return "", api.OK }
 
+// hasMachine tells whether there is a machine with k registers.
+func hasMachine(k int) bool {
+	return k >= api.MinRegs && k <= api.MaxRegs
+}
+
 // readSource takes a source program apart, and answers the error of Check, but not ErrSecret: the calls that only look at a program take one in which a secret shows.
 func readSource(s string) (code.Program, api.Errno) {
 	if len(s) > api.MaxSource {
 		return code.Program{}, api.ErrLong
 	}
-	p, ok := code.Read(s)
+	p, ok := code.ReadSource(s)
 	if !ok {
 		return code.Program{}, api.ErrCode
 	}
