@@ -15,39 +15,34 @@ func read(t *testing.T, s string) *code.Program {
 	return &p
 }
 
-// letters: a set's registers, in the order of their numbers.
-func letters(set Set) string {
-	s := ""
-	for r, letter := range "abcdefghijklmnopqrstuvwxyzABCDEFGHIJKLMNOPQRSTUVWXYZ" {
-		if set.Has(r) {
-			s += string(letter)
-		}
-	}
-	return s
-}
-
-func TestLiveAtStarts(t *testing.T) {
+func TestLiveAhead(t *testing.T) {
 	for _, c := range []struct {
 		s    string
 		want []string
 	}{
-		{"+cab*ccarc..", []string{"ab"}},
-		{"?a12#c07rc..rb..", []string{"ab", "", "b"}},
-		{"j1..+aab?a12rA..", []string{"abA", "abA", "A"}},
+		{"+cab*ccarc..", []string{"ab", "ac", "c"}},
+		{"?a12#c07rc..rb..", []string{"ab", "", "c", "b"}},
+		{"j1..+aab?a12rA..", []string{"Aab", "Aab", "Aab", "A"}},
 		{"j9..rc..j1..j2..j3..j4..j5..j6..j7..j8..", []string{"c", "c", "c", "c", "c", "c", "c", "c", "c", "c"}},
-		{"ra..SzZ.rB..", []string{"a", "zBZ"}},
+		{"j1..j2..j3..j4..j5..j6..j7..j8..j9..rc..", []string{"c", "c", "c", "c", "c", "c", "c", "c", "c", "c"}},
+		{"ra..SzZ.rB..", []string{"a", "BZz", "B"}},
 		{"j1..j1..", []string{"", ""}},
+		// What stands behind the end of a block does not come next.
+		{"ra..rb..", []string{"a", "b"}},
 	} {
-		live := LiveAtStarts(read(t, c.s))
+		live := LiveAhead(read(t, c.s))
 		if len(live) != len(c.want) {
-			t.Errorf("%q has %d blocks, want %d", c.s, len(live), len(c.want))
+			t.Errorf("%q has %d instructions, want %d", c.s, len(live), len(c.want))
 			continue
 		}
-		for b, want := range c.want {
-			if got := letters(live[b]); got != want {
-				t.Errorf("live at the beginning of block %d of %q: %q, want %q", b, c.s, got, want)
+		for at, want := range c.want {
+			if got := live[at].Text(); got != want {
+				t.Errorf("P7: live ahead of instruction %d of %q: %q, want %q", at, c.s, got, want)
 			}
 		}
+	}
+	if live := LiveAhead(&code.Program{}); len(live) != 0 {
+		t.Errorf("where nothing stands there is live: %v", live)
 	}
 }
 
@@ -59,14 +54,5 @@ func TestMayReadUnset(t *testing.T) {
 	}
 	if MayReadUnset(&code.Program{}) {
 		t.Error("nothing is read where nothing stands")
-	}
-}
-
-func TestHasOutside(t *testing.T) {
-	set := Set{}
-	set.put(code.None, true)
-	set.put(code.Registers, true)
-	if set.Has(code.None) || set.Has(code.Registers) || set != (Set{}) {
-		t.Error("a set holds what is no register")
 	}
 }

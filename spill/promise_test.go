@@ -24,6 +24,14 @@ func zeroWithError(t *testing.T, s string, k int, in api.Input, fuel int) {
 			t.Errorf("P1: Accept(%.80q, %.80q, %d) = %v, %d", c[0], c[1], k, ok, e)
 		}
 	}
+	for _, n := range []int{k, fuel} {
+		if l, e := Live(s, n); e != api.OK && l != "" {
+			t.Errorf("P1: Live(%.80q, %d) = %q, %d", s, n, l, e)
+		}
+		if l, e := Core(s, n); e != api.OK && l != "" {
+			t.Errorf("P1: Core(%.80q, %d) = %q, %d", s, n, l, e)
+		}
+	}
 }
 
 // TestNoPanic: all kinds of texts and numbers; a panic ends the test.
@@ -85,7 +93,9 @@ type answers struct {
 	run      api.Outcome
 	exec     api.Outcome
 	accepted bool
-	errors   [4]api.Errno
+	live     string
+	core     string
+	errors   [6]api.Errno
 }
 
 func answersOf(s, m string, in api.Input, fuel int) answers {
@@ -94,6 +104,8 @@ func answersOf(s, m string, in api.Input, fuel int) answers {
 	a.run, a.errors[1] = Run(s, in, fuel)
 	a.exec, a.errors[2] = Exec(m, 6, in, fuel)
 	a.accepted, a.errors[3] = Accept(s, m, 6)
+	a.live, a.errors[4] = Live(s, fuel%4)
+	a.core, a.errors[5] = Core(s, 1+fuel%4)
 	return a
 }
 

@@ -93,32 +93,39 @@ func isProgram(s string, form *regexp.Regexp) bool {
 	return blocks <= 10
 }
 
-// mayReadUnset walks forward from instruction 0, for each register on its own.
-func mayReadUnset(l []string) bool {
+// isLive walks forward from an instruction, and tells whether a register is read before it is written.
+func isLive(l []string, from int, r rune) bool {
 	starts := blockStarts(l)
+	seen := map[int]bool{}
+	todo := []int{from}
+	for len(todo) > 0 {
+		at := todo[0]
+		todo = todo[1:]
+		if seen[at] {
+			continue
+		}
+		seen[at] = true
+		i := l[at]
+		if strings.ContainsRune(reads(i), r) {
+			return true
+		}
+		if strings.ContainsRune(writes(i), r) {
+			continue
+		}
+		if !endsBlock(i) {
+			todo = append(todo, at+1)
+		}
+		for _, digit := range named(i) {
+			todo = append(todo, starts[digit-'0'])
+		}
+	}
+	return false
+}
+
+func mayReadUnset(l []string) bool {
 	for _, r := range "cdefghijklmnopqrstuvwxyzCDEFGHIJKLMNOPQRSTUVWXYZ" {
-		seen := map[int]bool{}
-		todo := []int{0}
-		for len(todo) > 0 {
-			at := todo[0]
-			todo = todo[1:]
-			if seen[at] {
-				continue
-			}
-			seen[at] = true
-			i := l[at]
-			if strings.ContainsRune(reads(i), r) {
-				return true
-			}
-			if strings.ContainsRune(writes(i), r) {
-				continue
-			}
-			if !endsBlock(i) {
-				todo = append(todo, at+1)
-			}
-			for _, digit := range named(i) {
-				todo = append(todo, starts[digit-'0'])
-			}
+		if isLive(l, 0, r) {
+			return true
 		}
 	}
 	return false
@@ -150,6 +157,91 @@ func referenceCheck(s string) (int, api.Errno) {
 		return 0, api.ErrSecret
 	}
 	return len(l), api.OK
+}
+
+// referenceRead: the error of Check, but not ErrSecret.
+func referenceRead(s string) api.Errno {
+	_, e := referenceCheck(s)
+	if e == api.ErrSecret {
+		return api.OK
+	}
+	return e
+}
+
+// refusedTexts: texts that the calls which take a source program refuse, whatever their numbers.
+var refusedTexts = []struct {
+	s string
+	e api.Errno
+}{
+	{strings.Repeat("ra..", 64) + "r", api.ErrLong},
+	{strings.Repeat("\x00", 257), api.ErrLong},
+	{strings.Repeat("\x00", 256), api.ErrCode},
+	{"", api.ErrCode}, {"ra.", api.ErrCode}, {"+cab", api.ErrCode}, {"j0..", api.ErrCode}, {"j1..", api.ErrCode},
+	{"ra..+cab", api.ErrCode}, {"r0..", api.ErrCode}, {"ra..\x00", api.ErrCode}, {">ab.ra..", api.ErrCode}, {"~a..ra..", api.ErrCode},
+	{"rc..", api.ErrUnset}, {"=cc.ra..", api.ErrUnset}, {"?a12#c07j2..rc..", api.ErrUnset}, {"=aC.ra..", api.ErrUnset},
+}
+
+const risingLetters = "ABCDEFGHIJKLMNOPQRSTUVWXYZabcdefghijklmnopqrstuvwxyz"
+
+func referenceLive(l []string, i int) string {
+	live := ""
+	for _, r := range risingLetters {
+		if isLive(l, i, r) {
+			live += string(r)
+		}
+	}
+	return live
+}
+
+// doMeet: whether two different registers meet.
+func doMeet(l []string, r, q rune) bool {
+	if isLive(l, 0, r) && isLive(l, 0, q) {
+		return true
+	}
+	for at, i := range l {
+		if writes(i) == string(r) && isLive(l, at+1, q) || writes(i) == string(q) && isLive(l, at+1, r) {
+			return true
+		}
+	}
+	return false
+}
+
+// referenceCore takes registers away in an order that is thrown.
+func referenceCore(l []string, c int, d *dice) string {
+	there := map[rune]bool{}
+	for _, i := range l {
+		for _, r := range reads(i) + writes(i) {
+			there[r] = true
+		}
+	}
+	meets := map[[2]rune]bool{}
+	for r := range there {
+		for q := range there {
+			meets[[2]rune{r, q}] = r != q && doMeet(l, r, q)
+		}
+	}
+	for {
+		var loose []rune
+		left := ""
+		for _, r := range risingLetters {
+			count := 0
+			for q := range there {
+				if meets[[2]rune{r, q}] {
+					count++
+				}
+			}
+			if there[r] {
+				left += string(r)
+			}
+			if there[r] && count < c {
+				loose = append(loose, r)
+			}
+		}
+		if len(loose) == 0 {
+			return left
+		}
+		delete(there, loose[d.throw(len(loose))])
+	}
 }
 
 // referenceRun runs a program that Check does not refuse but for its secrets.
@@ -285,6 +377,18 @@ func (d *dice) program(letters string) string {
 		}
 	}
 	return s
+}
+
+// begun makes a program that often writes its registers, more or fewer of them, ahead of all else.
+func (d *dice) begun() string {
+	names := "abABcdefCDEF"[:2+d.throw(11)]
+	s := ""
+	for _, r := range names {
+		if d.throw(20) != 0 && (r > 'b' || r > 'B' && r < 'a' || d.throw(4) == 0) {
+			s += "#" + string(r) + "0" + d.of("123456789")
+		}
+	}
+	return s + d.program(names)
 }
 
 func (d *dice) value() int {

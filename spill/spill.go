@@ -6,6 +6,7 @@ import (
 	"spill/api"
 	"spill/code"
 	"spill/flow"
+	"spill/meet"
 	"spill/run"
 	"spill/secrecy"
 )
@@ -69,10 +70,31 @@ func Accept(s string, t string, k int) (bool, api.Errno) {
 }
 
 // Live tells which registers are live ahead of an instruction (P7).
-func Live(s string, i int) (string, api.Errno) { return "", api.OK }
+func Live(s string, i int) (string, api.Errno) {
+	p, e := readSource(s)
+	if e != api.OK {
+		return "", e
+	}
+	live := flow.LiveAhead(&p)
+	if i < 0 || i >= len(live) {
+		return "", api.ErrArg
+	}
+	return live[i].Text(), api.OK
+}
 
 // Core tells which registers cannot be told apart with few colours, piece by piece (P8).
-func Core(s string, c int) (string, api.Errno) { return "", api.OK }
+func Core(s string, c int) (string, api.Errno) {
+	p, e := readSource(s)
+	if e != api.OK {
+		return "", e
+	}
+	if c < 1 || c > code.Registers {
+		return "", api.ErrArg
+	}
+	graph := meet.Of(&p)
+	core := graph.Core(c)
+	return core.Text(), api.OK
+}
 
 // Compile makes a machine program of a source program (P9).
 func Compile(s string, k int) (string, api.Errno) { return "", api.OK }
