@@ -46,6 +46,11 @@ type Program struct {
 	Blocks []Block
 }
 
+// Bare is an instruction that has its first byte alone.
+func Bare(op byte) Instruction {
+	return Instruction{Op: op, D: None, X: None, Y: None, K: None, M: None}
+}
+
 // EndsBlock tells whether a block ends with the instruction.
 func (i Instruction) EndsBlock() bool {
 	return i.Op == 'j' || i.Op == '?' || i.Op == 'r'
@@ -54,6 +59,11 @@ func (i Instruction) EndsBlock() bool {
 // IsSecret tells whether a register, which may be None, is a secret one.
 func IsSecret(r int) bool {
 	return r >= FirstSecret
+}
+
+// IsSlot tells whether a place of a machine, which may be None, is a slot.
+func IsSlot(place int) bool {
+	return place >= FirstSlot
 }
 
 // Letter tells how a register of a source program, or a slot counted from 0 on, is written; where there is none, as a dot.

@@ -63,6 +63,46 @@ func TestReadMachineRefuses(t *testing.T) {
 	}
 }
 
+// TestWriteMachine: what is read is written as it was, every kind of instruction with every place.
+func TestWriteMachine(t *testing.T) {
+	texts := []string{"+501>Z3.<4a.~z..~5..?012#499j2..r0..", "-987*654&321^098#070#907=90.l89.L78.s67.S56.?598j9..r0..r0..r0..r0..r0..r0..r0..r0..", "r0.."}
+	for n := range alphabet {
+		slot := alphabet[n : n+1]
+		texts = append(texts, ">"+slot+"9.<8"+slot+".~"+slot+"..r0..")
+	}
+	for _, text := range texts {
+		p, ok := ReadMachine(text, 10)
+		if got := WriteMachine(p.Code); !ok || got != text {
+			t.Errorf("P9: %q, read and written, is %q", text, got)
+		}
+	}
+	if got := WriteMachine(nil); got != "" {
+		t.Errorf("nothing is written as %q", got)
+	}
+}
+
+// TestWriteMachineNoParts: what an instruction has not is a dot, and so no program.
+func TestWriteMachineNoParts(t *testing.T) {
+	for _, op := range "+#=lsj?r><~" {
+		text := WriteMachine([]Instruction{Bare(byte(op))})
+		if _, ok := ReadMachine(text+"r0..", 10); ok || len(text) != Width {
+			t.Errorf("an instruction without its parts is written as %q", text)
+		}
+	}
+	far := Instruction{Op: '=', D: Places, X: 1 << 40}
+	if got := WriteMachine([]Instruction{far}); got != "=..." {
+		t.Errorf("places that are not there are written as %q", got)
+	}
+}
+
+func TestIsSlot(t *testing.T) {
+	for place, want := range map[int]bool{None: false, 0: false, 9: false, 10: true, 61: true} {
+		if IsSlot(place) != want {
+			t.Errorf("IsSlot(%d) = %v", place, !want)
+		}
+	}
+}
+
 func TestLetter(t *testing.T) {
 	for n, want := range map[int]byte{-1: '.', 0: 'a', 25: 'z', 26: 'A', 51: 'Z', 52: '.'} {
 		if got := Letter(n); got != want {

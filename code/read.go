@@ -36,7 +36,7 @@ func (g grammar) read(s string) (Program, bool) {
 	return p, true
 }
 
-// shape tells what stands behind an instruction's first byte: registers d, x, y, slots D, X, a place q, the register 0, digits n, blocks k, m, dots.
+// shape tells what stands behind an instruction's first byte: registers d, x, y, slots D, X, a place q, the register 0, the tens t and the ones n of a number, blocks k, m, dots.
 func (g grammar) shape(op byte) string {
 	if !g.machine {
 		return commonShape(op)
@@ -59,7 +59,7 @@ func commonShape(op byte) string {
 	case '+', '-', '*', '&', '^':
 		return "dxy"
 	case '#':
-		return "dnn"
+		return "dtn"
 	case '=', 'l', 'L':
 		return "dx."
 	case 's', 'S':
@@ -75,11 +75,10 @@ func commonShape(op byte) string {
 }
 
 func (g grammar) readInstruction(text string) (Instruction, bool) {
-	i := Instruction{D: None, X: None, Y: None, K: None, M: None}
 	if len(text) == 0 {
-		return i, false
+		return Instruction{}, false
 	}
-	i.Op = text[0]
+	i := Bare(text[0])
 	parts := g.shape(i.Op)
 	if len(parts) == 0 || len(parts)+1 != len(text) {
 		return i, false
@@ -135,7 +134,7 @@ func (i *Instruction) take(part byte, b byte, place int) bool {
 	case 'y':
 		i.Y = place
 		return place != None
-	case 'n':
+	case 't', 'n':
 		i.N = i.N*10 + digit
 		return digit != None
 	case 'k':

@@ -34,13 +34,18 @@ func liveAhead(p *code.Program, live []Set, at int) Set {
 	return set
 }
 
-// MayReadUnset tells whether a register of a source program may be read unset: it is live at the very beginning, and nothing has written it there.
-func MayReadUnset(p *code.Program) bool {
+// AtBeginning tells which registers are live ahead of the first instruction of a source program.
+func AtBeginning(p *code.Program) Set {
 	live := LiveAhead(p)
 	if len(live) == 0 {
-		return false
+		return Set{}
 	}
-	unset := live[0]
+	return live[0]
+}
+
+// MayReadUnset tells whether a register of a source program may be read unset: it is live at the very beginning, and nothing has written it there.
+func MayReadUnset(p *code.Program) bool {
+	unset := AtBeginning(p)
 	for n := 0; n < len(code.Arguments); n++ {
 		unset.Put(code.Arguments[n], false)
 	}

@@ -46,6 +46,18 @@ func TestLiveAhead(t *testing.T) {
 	}
 }
 
+func TestAtBeginning(t *testing.T) {
+	for s, want := range map[string]string{"+cab*ccarc..": "ab", "#a01rA..ra..": "A", "#c01rc..": "", "?a12rB..rb..": "Bab", "j1..j1..": ""} {
+		live := AtBeginning(read(t, s))
+		if got := live.Text(); got != want {
+			t.Errorf("P9: live at the beginning of %q: %q, want %q", s, got, want)
+		}
+	}
+	if live := AtBeginning(&code.Program{}); live != (Set{}) {
+		t.Errorf("where nothing stands there is live: %v", live)
+	}
+}
+
 func TestMayReadUnset(t *testing.T) {
 	for s, want := range map[string]bool{"ra..": false, "rB..": false, "rc..": true, "=cc.ra..": true, "ra..rc..": false, "?a12#c01j2..rc..": true} {
 		if MayReadUnset(read(t, s)) != want {

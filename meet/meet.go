@@ -54,14 +54,47 @@ func (g *Graph) meetAll(r int, set *flow.Set) {
 	}
 }
 
+// Meet tells whether two registers meet.
+func (g *Graph) Meet(r int, other int) bool {
+	return r >= 0 && r < len(g.meets) && g.meets[r].Has(other)
+}
+
+// peeling is what is left of a graph's registers, and those that were taken away, in that order.
+type peeling struct {
+	left  flow.Set
+	taken []int
+}
+
+// peel takes away a register that meets fewer than c of those still there, as long as there is one.
+func (g *Graph) peel(c int) peeling {
+	all := peeling{left: g.stands}
+	// This ends, as each time one is taken away.
+	for r := g.loose(&all.left, c); r != code.None; r = g.loose(&all.left, c) {
+		all.left.Put(r, false)
+		all.taken = append(all.taken, r)
+	}
+	return all
+}
+
 // Core tells which registers are left, if one that meets fewer than c of those still there is taken away as long as there is one.
 func (g *Graph) Core(c int) flow.Set {
-	left := g.stands
-	// This ends, as each time one is taken away.
-	for r := g.loose(&left, c); r != code.None; r = g.loose(&left, c) {
-		left.Put(r, false)
+	all := g.peel(c)
+	return all.left
+}
+
+// Order lists the registers that stand in the program: those of the core, then the others, the one that was taken away last first. So each of the others meets fewer than c of those ahead of it.
+func (g *Graph) Order(c int) []int {
+	all := g.peel(c)
+	order := []int{}
+	for r := 0; r < code.Registers; r++ {
+		if all.left.Has(r) {
+			order = append(order, r)
+		}
 	}
-	return left
+	for at := len(all.taken) - 1; at >= 0; at-- {
+		order = append(order, all.taken[at])
+	}
+	return order
 }
 
 // loose finds a register of a set that meets fewer than c of it, and None if there is none.
@@ -76,12 +109,9 @@ func (g *Graph) loose(set *flow.Set, c int) int {
 
 // meeting counts the registers of a set that a register meets.
 func (g *Graph) meeting(r int, set *flow.Set) int {
-	if r < 0 || r >= len(g.meets) {
-		return 0
-	}
 	count := 0
 	for other := 0; other < code.Registers; other++ {
-		if g.meets[r].Has(other) && set.Has(other) {
+		if set.Has(other) && g.Meet(r, other) {
 			count++
 		}
 	}

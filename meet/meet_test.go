@@ -104,6 +104,51 @@ func TestCoreOfAChain(t *testing.T) {
 	}
 }
 
+// wantOrder: each register of the graph is listed once, those of the core first, and the others behind all but fewer than c of those that they meet.
+func wantOrder(t *testing.T, g *Graph, c int) {
+	t.Helper()
+	core := g.Core(c)
+	ahead := flow.Set{}
+	for at, r := range g.Order(c) {
+		inCore := at < len(core.Text())
+		if ahead.Has(r) || !g.stands.Has(r) || core.Has(r) != inCore {
+			t.Errorf("P9: with %d %c is listed as number %d; the core is %q", c, code.Letter(r), at, core.Text())
+		}
+		if count := g.meeting(r, &ahead); !inCore && count >= c {
+			t.Errorf("P9: with %d %c is listed behind %d that it meets", c, code.Letter(r), count)
+		}
+		ahead.Put(r, true)
+	}
+	if ahead != g.stands {
+		t.Errorf("P9: with %d there are listed %q of %q", c, ahead.Text(), g.stands.Text())
+	}
+}
+
+func TestOrder(t *testing.T) {
+	for _, s := range []string{
+		"ra..", "j1..j1..", "+cab*ccarc..", "+AAB+AAa+AAbrA..", "#c01#d02#e03#f04#g05+ccd+cce+ccf+ccgrc..",
+		"#c01#d02+dcd#e03+ede#f04+fefrf..", "ra..#c01#d02+dcd#e03+ede#f04+fef#c05+ccfrc..",
+		"#c01#d02#e03+ccd#g01#h02#i03+ggh+ggi+cce+gcg#X01+XXX?g12rg..+AAB+AAa+AAbrA..",
+	} {
+		g := graph(t, s)
+		for c := 1; c <= 8; c++ {
+			wantOrder(t, &g, c)
+		}
+	}
+}
+
+func TestMeet(t *testing.T) {
+	g := graph(t, "+cab*ccarc..")
+	for r := -1; r <= code.Registers; r++ {
+		for other := -1; other <= code.Registers; other++ {
+			want := r == 0 && (other == 1 || other == 2) || other == 0 && (r == 1 || r == 2)
+			if g.Meet(r, other) != want {
+				t.Errorf("P8: Meet(%d, %d) = %v", r, other, !want)
+			}
+		}
+	}
+}
+
 func TestOutside(t *testing.T) {
 	g := Graph{}
 	all := flow.Set{}

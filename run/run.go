@@ -175,7 +175,7 @@ func (m *state) write(place int, value int) {
 
 // showSlot lays a piece behind the trace if the place is a slot: whoever watches sees the frame, but not the registers.
 func (m *state) showSlot(op byte, place int) {
-	if place < code.FirstSlot {
+	if !code.IsSlot(place) {
 		return
 	}
 	letter := code.Letter(place - code.FirstSlot)

@@ -376,11 +376,16 @@ func follows(t *testing.T, s, m string, k int, in api.Input) {
 	if e != api.OK || ge != api.OK {
 		t.Fatalf("P6: %q: %d; %q: %d", s, e, m, ge)
 	}
-	if want.Status == api.Tired {
-		return
+	if want.Status != api.Tired {
+		endsAlike(t, s, m, want, got)
 	}
+}
+
+// endsAlike: how the run of a machine program ends that is accepted, beside that of the source program.
+func endsAlike(t *testing.T, s, m string, want, got api.Outcome) {
+	t.Helper()
 	if got.Status != want.Status || got.Value != want.Value || got.Public != want.Public || got.Secret != want.Secret {
-		t.Errorf("P6: %q ends with %+v, and %q, which is accepted, with %+v", s, want, m, got)
+		t.Errorf("P6, P9: %q ends with %+v, and %q, which is accepted, with %+v", s, want, m, got)
 	}
 	trace := ""
 	for at := 0; at < len(got.Trace); at++ {
@@ -391,10 +396,10 @@ func follows(t *testing.T, s, m string, k int, in api.Input) {
 		}
 	}
 	if trace != want.Trace {
-		t.Errorf("P6: %q shows %q, and %q, which is accepted, %q", s, want.Trace, m, got.Trace)
+		t.Errorf("P6, P9: %q shows %q, and %q, which is accepted, %q", s, want.Trace, m, got.Trace)
 	}
 	if want.Status == api.Returned && (got.Slots != [52]int{} || got.Regs != [10]int{got.Value}) {
-		t.Errorf("P6: %q, which is accepted, leaves %v, %v", m, got.Regs, got.Slots)
+		t.Errorf("P6, P9: %q, which is accepted, leaves %v, %v", m, got.Regs, got.Slots)
 	}
 }
 

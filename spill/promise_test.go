@@ -31,6 +31,9 @@ func zeroWithError(t *testing.T, s string, k int, in api.Input, fuel int) {
 		if l, e := Core(s, n); e != api.OK && l != "" {
 			t.Errorf("P1: Core(%.80q, %d) = %q, %d", s, n, l, e)
 		}
+		if m, e := Compile(s, n); e != api.OK && m != "" {
+			t.Errorf("P1: Compile(%.80q, %d) = %q, %d", s, n, m, e)
+		}
 	}
 }
 
@@ -95,7 +98,8 @@ type answers struct {
 	accepted bool
 	live     string
 	core     string
-	errors   [6]api.Errno
+	compiled string
+	errors   [7]api.Errno
 }
 
 func answersOf(s, m string, in api.Input, fuel int) answers {
@@ -106,6 +110,7 @@ func answersOf(s, m string, in api.Input, fuel int) answers {
 	a.accepted, a.errors[3] = Accept(s, m, 6)
 	a.live, a.errors[4] = Live(s, fuel%4)
 	a.core, a.errors[5] = Core(s, 1+fuel%4)
+	a.compiled, a.errors[6] = Compile(s, 6+fuel%5)
 	return a
 }
 

@@ -367,16 +367,20 @@ func (d *dice) program(letters string) string {
 		for n := d.throw(5); n > 0; n-- {
 			s += d.instruction(letters)
 		}
-		switch {
-		case b == blocks-1 || d.throw(6) == 0:
-			s += "r" + d.of(letters) + ".."
-		case d.throw(3) == 0:
-			s += "j" + d.of(digits) + ".."
-		default:
-			s += "?" + d.of(letters) + d.of(digits) + d.of(digits)
-		}
+		s += d.blockEnd(b == blocks-1, letters, digits)
 	}
 	return s
+}
+
+// blockEnd makes an instruction that ends a block; a program ends with the last block most often.
+func (d *dice) blockEnd(last bool, letters, digits string) string {
+	switch {
+	case last || d.throw(6) == 0:
+		return "r" + d.of(letters) + ".."
+	case d.throw(3) == 0:
+		return "j" + d.of(digits) + ".."
+	}
+	return "?" + d.of(letters) + d.of(digits) + d.of(digits)
 }
 
 // begun makes a program that often writes its registers, more or fewer of them, ahead of all else.
@@ -389,6 +393,44 @@ func (d *dice) begun() string {
 		}
 	}
 	return s + d.program(names)
+}
+
+// hushed: an instruction, with other registers if need be, so that no secret shows by it.
+func hushed(i string) string {
+	if !showForm.MatchString(i) {
+		return i
+	}
+	switch i[0] {
+	case 'l', '?':
+		return i[:1] + strings.ToLower(i[1:2]) + strings.ToLower(i[2:])
+	case 'L':
+		return "L" + strings.ToUpper(i[1:2]) + strings.ToLower(i[2:])
+	case 's', 'S':
+		return "S" + strings.ToLower(i[1:2]) + i[2:]
+	}
+	return i[:1] + strings.ToUpper(i[1:2]) + i[2:]
+}
+
+// crowd makes a program of many registers, in which no secret shows: most are written at the beginning, and read here and there.
+func (d *dice) crowd() string {
+	base := "abcdefghijkl"[:2+d.throw(11)]
+	names := base + strings.ToUpper(base)
+	s := ""
+	for _, r := range names {
+		if !strings.ContainsRune("abAB", r) || d.throw(4) == 0 {
+			s += "#" + string(r) + "0" + d.of("0123456789")
+		}
+	}
+	blocks := 1 + d.throw(10)
+	digits := "123456789"[:max(1, blocks-1)]
+	inner := (64 - len(s)/4 - blocks) / blocks
+	for b := 0; b < blocks; b++ {
+		for n := d.throw(inner + 1); n > 0; n-- {
+			s += hushed(d.instruction(names))
+		}
+		s += hushed(d.blockEnd(b == blocks-1, names, digits))
+	}
+	return s
 }
 
 func (d *dice) value() int {

@@ -5,6 +5,7 @@ import (
 	"spill/accept"
 	"spill/api"
 	"spill/code"
+	"spill/compile"
 	"spill/flow"
 	"spill/meet"
 	"spill/run"
@@ -13,14 +14,8 @@ import (
 
 // Check tells whether a text is a source program that keeps its secrets (P3).
 func Check(s string) (int, api.Errno) {
-	p, e := readSource(s)
-	if e != api.OK {
-		return 0, e
-	}
-	if secrecy.MayShow(&p) {
-		return 0, api.ErrSecret
-	}
-	return len(p.Code), api.OK
+	p, e := readSafe(s)
+	return len(p.Code), e
 }
 
 // Run runs a source program (P4).
@@ -97,11 +92,32 @@ func Core(s string, c int) (string, api.Errno) {
 }
 
 // Compile makes a machine program of a source program (P9).
-func Compile(s string, k int) (string, api.Errno) { return "", api.OK }
+func Compile(s string, k int) (string, api.Errno) {
+	p, e := readSafe(s)
+	if e != api.OK {
+		return "", e
+	}
+	if !hasMachine(k) {
+		return "", api.ErrArg
+	}
+	return compile.Machine(&p, k), api.OK
+}
 
 // hasMachine tells whether there is a machine with k registers.
 func hasMachine(k int) bool {
 	return k >= api.MinRegs && k <= api.MaxRegs
+}
+
+// readSafe takes a source program apart that keeps its secrets, and answers the error of Check.
+func readSafe(s string) (code.Program, api.Errno) {
+	p, e := readSource(s)
+	if e != api.OK {
+		return code.Program{}, e
+	}
+	if secrecy.MayShow(&p) {
+		return code.Program{}, api.ErrSecret
+	}
+	return p, api.OK
 }
 
 // readSource takes a source program apart, and answers the error of Check, but not ErrSecret: the calls that only look at a program take one in which a secret shows.
